@@ -1,0 +1,1 @@
+"""Driftstore: programs on a memory that stirs itself."""
