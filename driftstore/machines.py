@@ -61,6 +61,12 @@ def still(cells):
     return tuple([tuple([1 if row == column else 0 for column in range(cells)]) for row in range(cells)])
 
 
+def still_machine(prime, values):
+    """Return the machine whose cells are the values, each written and seen alone, never stirred."""
+    cells = still(values)
+    return (prime, cells, cells, cells)
+
+
 def behind_ticks(machine, memory, ticks):
     """Return the memory behind so many ticks, without a deed."""
     check_machine(machine)
