@@ -67,18 +67,30 @@ def still_machine(prime, values):
     return (prime, cells, cells, cells)
 
 
-def behind_ticks(machine, memory, ticks):
-    """Return the memory behind so many ticks, without a deed."""
-    check_machine(machine)
-    check_memory(machine, memory)
-    check_number(ticks, 0, MOST_TICKS)
-    prime, table = machine[0], machine[1]
+def undone(prime, stir):
+    """Return the table that undoes a table."""
+    cells = len(stir)
+    # Beside the table as it becomes the still one, the still one becomes what undoes it.
+    steps = staircase(prime, [row + unmoved for row, unmoved in zip(stir, still(cells))])
+    return tuple([step[cells:] for step in steps])
+
+
+def moved_on(prime, table, memory, ticks):
+    """Return a memory as a table leaves it that stirs it so many times."""
     while ticks > 0:
         if ticks % 2 == 1:
             memory = stirred(prime, table, memory)
         table = stirred_by_both(prime, table, table)
         ticks = ticks // 2
     return memory
+
+
+def behind_ticks(machine, memory, ticks):
+    """Return the memory behind so many ticks, without a deed."""
+    check_machine(machine)
+    check_memory(machine, memory)
+    check_number(ticks, 0, MOST_TICKS)
+    return moved_on(machine[0], machine[1], memory, ticks)
 
 
 def turns(machine):
