@@ -39,13 +39,12 @@ def join_deeds(machine, ticks_of_round, memories, wanted, words):
     return sight_search(machine, ticks_of_round, memories, words).from_this_hand(wanted)
 
 
-def write_deeds(machine, ticks_of_round, column, words):
-    """Return shortest deeds that are as if at first the hand times the column had been added.
+def write_deeds(machine, ticks_of_round, forms, column, words):
+    """Return shortest deeds that are, to the forms, as if at first the hand times the column had been added.
 
     With the words take and add it is as if it had been taken away.
     """
     prime, stir, writes, _ = machine
-    forms = looks(machine)
     # What a later tick writes has been stirred less often: it counts as what would have become of it.
     plugs = Plugs(prime, undone(prime, stir), writes, forms, words)
     return Search(plugs, ticks_of_round).from_this_hand(told_by(prime, forms, column))
@@ -82,7 +81,7 @@ def writing(machine, column):
     """Return a shortest tuple of deeds that are as if the hand times a column had been added at first."""
     check_machine(machine)
     check_row(machine, column)
-    return write_deeds(machine, turns(machine), column, ("add", "take"))
+    return write_deeds(machine, turns(machine), looks(machine), column, ("add", "take"))
 
 
 def codes(machine, values):

@@ -2,56 +2,26 @@
 
 The stirring moves the columns in which the values stand, so the deeds for an instruction of the program
 depend on the tick of the period at which they begin: its phase. Where several ways lead to an instruction,
-waits let them come at the same phase.
+waits let them come at the same phase. Waits also put off what hits come ahead of until hits may come.
 """
 
-from driftstore.codes import apart_columns, get_deeds, join_deeds, write_deeds
-from driftstore.fields import facing, less
-from driftstore.machines import moved_on, still, stirred, stirred_by_both, turns
-from driftstore.parts import looks, reach
-from driftstore.programs import SEEING, WRITING, landings, names_met, nexts
-
-
-def resting(machine, far, table):
-    """Return the staircase of the reached memories that a table leaves as they are, to all sights.
-
-    far are the rows that meet all that can be reached with 0.
-    """
-    prime, cells = machine[0], len(machine[1])
-    turned = tuple(zip(*table))
-    changes = tuple([less(prime, stirred(prime, turned, look), 1, look) for look in looks(machine)])
-    return facing(prime, far + changes, cells)
-
-
-def resting_columns(machine, ticks_of_round, many):
-    """Return a least period, and so many columns that are as they were behind so many ticks.
-
-    What can never be seen is passed over, so the machine must keep so many values.
-    """
-    prime, stir = machine[0], machine[1]
-    far = facing(prime, reach(machine), len(stir))
-    table = stir
-    for ticks in range(1, ticks_of_round):
-        # What is as it was behind some ticks is so behind as many as they have in common with the round.
-        if ticks_of_round % ticks == 0:
-            columns = apart_columns(prime, looks(machine), resting(machine, far, table), many)
-            if len(columns) == many:
-                return ticks, columns
-        table = stirred_by_both(prime, stir, table)
-    return ticks_of_round, apart_columns(prime, looks(machine), reach(machine), many)
+from driftstore.codes import get_deeds, join_deeds, write_deeds
+from driftstore.machines import still, turns
+from driftstore.parts import clear_forms
+from driftstore.programs import MARKS, SEEING, WRITING, landings, names_met, nexts
 
 
 class Draft:
-    """A kept program that is to carry a program on a machine that keeps enough values."""
+    """A kept program that is to carry a program whose used values stand in this way."""
 
-    def __init__(self, machine, program):
-        self.machine = machine
+    def __init__(self, stand, program):
+        self.stand = stand
+        self.machine = stand.machine
         self.program = program
         self.lands = landings(program)
         self.end = len(program)
         self.names = names_met(program)
-        self.ticks_of_round = turns(machine)
-        self.period, self.columns = resting_columns(machine, self.ticks_of_round, len(self.names))
+        self.ticks_of_round = turns(stand.machine)
         self.order = []
         self.phases = {}
         self.deeds = {}
@@ -76,7 +46,9 @@ class Draft:
             self.put_in_order(self.lands[0])
             self.order = self.order[::-1]
         for at, place in enumerate(self.order):
-            self.deeds[place] = self.deeds_for(self.program[place], self.phases[place] % self.period)
+            if self.program[place][0] in MARKS:
+                self.phases[place] = self.stand.open_from(self.phases[place])
+            self.deeds[place] = self.deeds_for(self.program[place], self.phases[place] % self.stand.period)
             for aim in self.aims(place):
                 if aim in self.order[at + 1:]:
                     self.phases[aim] = max(self.phases[aim], self.behind(place))
@@ -92,25 +64,22 @@ class Draft:
         """Return how many waits stand between the deeds of a place and the aim behind them."""
         if aim == self.end:
             return 0
-        return (self.phases[aim] - self.behind(place)) % self.period
-
-    def moved_columns(self, phase):
-        """Return the columns as the stirring leaves them up to a phase."""
-        prime, stir = self.machine[0], self.machine[1]
-        return tuple([moved_on(prime, stir, column, phase) for column in self.columns])
+        return (self.phases[aim] - self.behind(place)) % self.stand.period
 
     def deeds_for(self, instruction, phase):
         """Return the deeds that do at a phase what an instruction does."""
         word = instruction[0]
         if word not in SEEING and word not in WRITING:
             return (instruction,)
-        columns = self.moved_columns(phase)
         value = self.names.index(instruction[1])
+        columns = self.stand.moved(self.stand.columns, phase)
+        noise = self.stand.moved(self.stand.noise, phase)
         if word in WRITING:
             words = ("add", "take") if word == "add" else ("take", "add")
-            return write_deeds(self.machine, self.ticks_of_round, columns[value], words)
-        wanted = still(len(columns))[value]
+            forms = clear_forms(self.machine, noise)
+            return write_deeds(self.machine, self.ticks_of_round, forms, columns[value], words)
+        wanted = still(len(columns))[value] + (0,) * len(noise)
         if word == "get":
-            return get_deeds(self.machine, self.ticks_of_round, columns, wanted)
+            return get_deeds(self.machine, self.ticks_of_round, columns + noise, wanted)
         words = ("plus", "minus") if word == "plus" else ("minus", "plus")
-        return join_deeds(self.machine, self.ticks_of_round, columns, wanted, words)
+        return join_deeds(self.machine, self.ticks_of_round, columns + noise, wanted, words)

@@ -75,14 +75,15 @@ def undone(prime, stir):
     return tuple([step[cells:] for step in steps])
 
 
-def moved_on(prime, table, memory, ticks):
-    """Return a memory as a table leaves it that stirs it so many times."""
+def stirred_often(prime, stir, ticks):
+    """Return the table that stirs as a table that stirs so many times."""
+    table = still(len(stir))
     while ticks > 0:
         if ticks % 2 == 1:
-            memory = stirred(prime, table, memory)
-        table = stirred_by_both(prime, table, table)
+            table = stirred_by_both(prime, stir, table)
+        stir = stirred_by_both(prime, stir, stir)
         ticks = ticks // 2
-    return memory
+    return table
 
 
 def behind_ticks(machine, memory, ticks):
@@ -90,7 +91,7 @@ def behind_ticks(machine, memory, ticks):
     check_machine(machine)
     check_memory(machine, memory)
     check_number(ticks, 0, MOST_TICKS)
-    return moved_on(machine[0], machine[1], memory, ticks)
+    return stirred(machine[0], stirred_often(machine[0], machine[1], ticks), memory)
 
 
 def turns(machine):

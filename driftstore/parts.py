@@ -37,6 +37,11 @@ def gone(machine):
     return facing(prime, facing(prime, reach(machine), cells) + looks(machine), cells)
 
 
+def clear_forms(machine, rows):
+    """Return the staircase of the looks, and sums of multiples of them, that meet each of the rows with 0."""
+    return facing(machine[0], dark(machine) + rows, len(machine[1]))
+
+
 def told_number(machine):
     """Return how many values can be kept."""
     return len(reach(machine)) - len(gone(machine))

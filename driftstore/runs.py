@@ -4,7 +4,7 @@ from driftstore.checks import check_number, check_prime, is_number
 from driftstore.errors import BadInputs
 from driftstore.fields import less, meet
 from driftstore.machines import MOST_TICKS, check_machine, check_memory, still_machine, stirred
-from driftstore.programs import check_kept, check_program, check_values, landings
+from driftstore.programs import MARKS, check_kept, check_program, check_values, landings
 
 MOST_INPUTS = 50
 
@@ -36,15 +36,22 @@ def done(machine, deed, memory, hand):
     return memory, hand
 
 
-def run(machine, program, inputs, most, memory):
-    """Return what a run says, the word for how it ends, and its ticks."""
+def run(machine, program, inputs, most, memory, strikes):
+    """Return what a run says, the word for how it ends, and its ticks.
+
+    Ahead of the says, asks and zeros whose numbers strikes has, counted together from 0, it adds those rows.
+    """
     lands = landings(program)
     said = []
-    hand = asked = ticks = 0
+    hand = asked = ticks = marks = 0
     place = lands[0]
     while place < len(program) and ticks < most:
         instruction = program[place]
         following = place + 1
+        if instruction[0] in MARKS:
+            if marks in strikes:
+                memory = less(machine[0], memory, -1, strikes[marks])
+            marks += 1
         if instruction[0] == "say":
             said.append(hand)
         elif instruction[0] == "ask":
@@ -68,7 +75,7 @@ def run_stirred(machine, program, inputs, most, memory):
     check_inputs(machine[0], inputs)
     check_number(most, 0, MOST_TICKS)
     check_memory(machine, memory)
-    return run(machine, program, inputs, most, memory)
+    return run(machine, program, inputs, most, memory, {})
 
 
 def run_still(prime, values, program, inputs, most):
@@ -79,4 +86,4 @@ def run_still(prime, values, program, inputs, most):
     check_inputs(prime, inputs)
     check_number(most, 0, MOST_TICKS)
     # On a machine that is never stirred, each instruction but go and stop takes one tick.
-    return run(still_machine(prime, values), program, inputs, most, (0,) * values)
+    return run(still_machine(prime, values), program, inputs, most, (0,) * values, {})

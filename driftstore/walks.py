@@ -112,10 +112,11 @@ class Legs:
 class Walks:
     """All walks of two programs side by side, and the faults that they meet."""
 
-    def __init__(self, one, other):
+    def __init__(self, one, other, hits):
         self.prime = other.machine[0]
         self.one = one
         self.other = other
+        self.hits = hits
         self.width = len(one.machine[1]) + 2
         self.spans = {}
         self.waiting = []
@@ -126,14 +127,26 @@ class Walks:
         word = self.one.word(pair[0])
         if word != self.other.word(pair[1]):
             self.faults[pair] = "unlike"
-        elif word == "ask":
+        elif word is not None:
+            self.strike(pair)
+            self.stop_by(pair, word, state, other_state)
+
+    def stop_by(self, pair, word, state, other_state):
+        """Note that walks come with such states to a pair of places with the same mark."""
+        if word == "ask":
             # Both hands become the same input, whatever they were: 0, or a multiple of 1 more.
             self.note(pair, state[:-1] + (0,) + other_state[:-1] + (0,))
             self.note(pair, (0,) * (len(state) - 1) + (1,) + (0,) * (len(other_state) - 1) + (1,))
-        elif word is not None:
-            if state[-1] != other_state[-1]:
-                self.faults[pair] = "hand"
-            self.note(pair, state + other_state)
+            return
+        if state[-1] != other_state[-1]:
+            self.faults[pair] = "hand"
+        self.note(pair, state + other_state)
+
+    def strike(self, pair):
+        """Note that hits may come ahead of a pair of places."""
+        if pair not in self.spans:
+            for hit in self.hits:
+                self.note(pair, (0,) * (self.width + 1) + hit + (0,))
 
     def note(self, pair, states):
         """Have walks go on with states if those noted for this pair do not span them."""
@@ -157,15 +170,20 @@ class Walks:
                 self.arrive((leg[0], other_leg[0]), led, other_led)
 
 
+def faults_met(machine, hits, values, program, kept):
+    """Return the ascending tuple of what keeps a kept program from carrying a program whatever hits come."""
+    walks = Walks(Legs(still_machine(machine[0], values), program), Legs(machine, kept), hits)
+    walks.walk()
+    return tuple(sorted([pair + (word,) for pair, word in walks.faults.items()]))
+
+
 def faults(machine, values, program, kept):
     """Return the ascending tuple of what keeps a kept program from carrying a program."""
     check_machine(machine)
     check_values(values)
     check_program(machine[0], values, program)
     check_kept(machine, kept)
-    walks = Walks(Legs(still_machine(machine[0], values), program), Legs(machine, kept))
-    walks.walk()
-    return tuple(sorted([pair + (word,) for pair, word in walks.faults.items()]))
+    return faults_met(machine, (), values, program, kept)
 
 
 def carries(machine, values, program, kept):

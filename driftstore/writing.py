@@ -5,6 +5,7 @@ from driftstore.errors import NoWay, TooMany
 from driftstore.machines import check_machine
 from driftstore.parts import told_number
 from driftstore.programs import MOST_KEPT, check_program, check_values, names_met
+from driftstore.stands import stands
 
 
 def way_behind(draft, place, way):
@@ -47,6 +48,29 @@ def with_number(step, starts):
     return (step[0], starts[aim] - waits)
 
 
+def written_out(stand, program):
+    """Return a kept program that carries a program whose used values stand in this way."""
+    draft = Draft(stand, program)
+    draft.plan()
+    found = laid_out(draft)
+    if len(found) > MOST_KEPT:
+        raise TooMany(MOST_KEPT)
+    # A kept program has one instruction at least.
+    return found or (("stop",),)
+
+
+def kept_through(machine, hits, program):
+    """Return a kept program that carries a program whatever hits come, if the machine keeps enough despite them."""
+    ways = stands(machine, hits, len(names_met(program)))
+    for stand in ways[:-1]:
+        try:
+            return written_out(stand, program)
+        except TooMany:
+            # With less noise the deeds may be fewer.
+            continue
+    return written_out(ways[-1], program)
+
+
 def kept(machine, values, program):
     """Return a kept program that carries a program."""
     check_machine(machine)
@@ -54,10 +78,4 @@ def kept(machine, values, program):
     check_program(machine[0], values, program)
     if len(names_met(program)) > told_number(machine):
         raise NoWay()
-    draft = Draft(machine, program)
-    draft.plan()
-    found = laid_out(draft)
-    if len(found) > MOST_KEPT:
-        raise TooMany(MOST_KEPT)
-    # A kept program has one instruction at least.
-    return found or (("stop",),)
+    return kept_through(machine, (), program)

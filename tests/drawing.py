@@ -112,3 +112,10 @@ def drawn_kept(chance, machine, most=20):
     prime, _, writes, sights = machine
     many = chance.randint(1, most)
     return drawn_instructions(chance, prime, len(sights), len(writes), many, ("say", "ask", "wait"))
+
+
+def drawn_hits(chance, machine):
+    """One to three rows: noughts, writes and others."""
+    cells = len(machine[1])
+    kinds = [(0,) * cells, machine[2][0]] + [drawn_row(chance, machine[0], cells) for _ in range(4)]
+    return tuple(chance.choice(kinds) for _ in range(chance.choice((1, 1, 2, 3))))

@@ -10,22 +10,13 @@ from driftstore.codes import codes, reading, shows_codes, writing
 from driftstore.errors import BadMachine, BadNumber, BadRows, NoWay, TooMany
 from driftstore.parts import keeps
 from drawing import PRIMES, drawn_machine, drawn_row, unit
+from trying_out import (
+    forms_tried_out, meet, memories, one_tick, reached_tried_out, small_machines, unseen_tried_out,
+)
 from wrong_values import FAR_INTEGERS, NO_INTEGERS, NO_ROW_PARTS, WrongValueTests, put_in
 
 SWAP = (2, ((0, 1), (1, 0)), ((1, 0),), ((1, 0),))
 DEAF = (2, ((1,),), ((0,),), ((1,),))
-
-
-def meet(prime, one, other):
-    return sum(one[k] * other[k] for k in range(len(one))) % prime
-
-
-def one_tick(machine, memory):
-    return tuple(meet(machine[0], row, memory) for row in machine[1])
-
-
-def memories(machine):
-    return list(itertools.product(range(machine[0]), repeat=len(machine[1])))
 
 
 def done(machine, deed, memory, hand):
@@ -49,53 +40,12 @@ def behind(machine, deeds, memory, hand):
     return memory, hand
 
 
-def reached_tried_out(machine):
-    prime, stir, writes, _ = machine
-    found, now = set(), {(0,) * len(stir)}
-    while not now <= found:
-        found |= now
-        written = {
-            tuple((a + hand * b) % prime for a, b in zip(memory, write))
-            for memory in now for write in writes for hand in range(prime)
-        }
-        now = {one_tick(machine, memory) for memory in written | now}
-    return found
-
-
-def unseen_tried_out(machine):
-    found = set()
-    for memory in memories(machine):
-        now, is_seen = memory, False
-        while True:
-            is_seen = is_seen or any(meet(machine[0], sight, now) for sight in machine[3])
-            now = one_tick(machine, now)
-            if now == memory:
-                break
-        if not is_seen:
-            found.add(memory)
-    return found
-
-
 def round_tried_out(machine):
     everything = memories(machine)
     now, ticks = [one_tick(machine, memory) for memory in everything], 1
     while now != everything:
         now, ticks = [one_tick(machine, memory) for memory in now], ticks + 1
     return ticks
-
-
-def forms_tried_out(machine):
-    """All sums of multiples of what tells, ahead, what a sight will meet the memory with."""
-    prime, stir, _, sights = machine
-    rows, now = set(), set(sights)
-    while not now <= rows:
-        rows |= now
-        now = {tuple(sum(row[k] * stir[k][at] for k in range(len(stir))) % prime for at in range(len(stir)))
-               for row in now}
-    found = {(0,) * len(stir)}
-    for row in rows:
-        found = {tuple((a + k * b) % prime for a, b in zip(old, row)) for old in found for k in range(prime)}
-    return found
 
 
 def added(prime, hands, sign, seen):
@@ -150,16 +100,6 @@ def least_writing(machine, column):
                     then.append(told)
         now, wanted = then, one_tick(machine, wanted)
     return None
-
-
-def small_machines(seed, many, most):
-    chance = random.Random(seed)
-    found = []
-    while len(found) < many:
-        machine = drawn_machine(chance)
-        if machine[0] ** len(machine[1]) <= most:
-            found.append(machine)
-    return found
 
 
 class ReadingTests(unittest.TestCase):

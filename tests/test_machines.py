@@ -7,6 +7,7 @@ import unittest
 from driftstore import machines
 from driftstore.errors import BadMachine, BadMemory, BadNumber
 from driftstore.machines import behind_ticks, turns
+from trying_out import memories, one_tick
 from wrong_values import FAR_INTEGERS, NO_INTEGERS, NO_ROW_PARTS, WrongValueTests, put_in
 
 PRIMES = (2, 3, 5, 7)
@@ -20,19 +21,10 @@ def machine_of(prime, stir):
     return (prime, stir, (noughts,), (noughts,))
 
 
-def one_tick(machine, memory):
-    prime, stir = machine[:2]
-    return tuple(sum(row[k] * memory[k] for k in range(len(memory))) % prime for row in stir)
-
-
 def ticked(machine, memory, ticks):
     for _ in range(ticks):
         memory = one_tick(machine, memory)
     return memory
-
-
-def memories(machine):
-    return list(itertools.product(range(machine[0]), repeat=len(machine[1])))
 
 
 def can_be_undone(prime, stir):

@@ -1,77 +1,18 @@
 """Tests of driftstore.parts (points 1, 6 and 7)."""
 
 import inspect
-import itertools
-import random
 import unittest
 
 from driftstore import parts
 from driftstore.errors import BadMachine
 from driftstore.fields import stairs
 from driftstore.parts import keeps, lost, reached, unseen
-from drawing import PRIMES, drawn_machine, unit
+from drawing import PRIMES, unit
+from trying_out import reached_tried_out, small_machines, span, unseen_tried_out
 from wrong_values import NO_ROW_PARTS, WrongValueTests, put_in
 
 FUNCTIONS = (reached, unseen, lost, keeps)
 EXAMPLE = (2, ((1, 0, 0), (0, 0, 1), (0, 1, 0)), ((1, 1, 0),), ((0, 1, 1),))
-
-
-def meet(prime, one, other):
-    return sum(one[k] * other[k] for k in range(len(one))) % prime
-
-
-def one_tick(machine, memory):
-    return tuple(meet(machine[0], row, memory) for row in machine[1])
-
-
-def memories(machine):
-    return list(itertools.product(range(machine[0]), repeat=len(machine[1])))
-
-
-def reached_tried_out(machine):
-    """All memories to which deeds with some hands lead nought, tick by tick."""
-    prime, stir, writes, _ = machine
-    found, now = set(), {(0,) * len(stir)}
-    while not now <= found:
-        found |= now
-        written = {
-            tuple((a + hand * b) % prime for a, b in zip(memory, write))
-            for memory in now for write in writes for hand in range(prime)
-        }
-        now = {one_tick(machine, memory) for memory in written | now}
-    return found
-
-
-def unseen_tried_out(machine):
-    """All memories that no sight meets with another number than 0 until they are as they were."""
-    found = set()
-    for memory in memories(machine):
-        now, is_seen = memory, False
-        while True:
-            is_seen = is_seen or any(meet(machine[0], sight, now) for sight in machine[3])
-            now = one_tick(machine, now)
-            if now == memory:
-                break
-        if not is_seen:
-            found.add(memory)
-    return found
-
-
-def span(prime, rows, width):
-    found = {(0,) * width}
-    for row in rows:
-        found = {tuple((a + k * b) % prime for a, b in zip(old, row)) for old in found for k in range(prime)}
-    return found
-
-
-def small_machines(seed, many):
-    chance = random.Random(seed)
-    found = []
-    while len(found) < many:
-        machine = drawn_machine(chance, most_cells=4)
-        if machine[0] ** len(machine[1]) <= 130:
-            found.append(machine)
-    return found
 
 
 class PartsTests(unittest.TestCase):
@@ -89,7 +30,7 @@ class PartsTests(unittest.TestCase):
         self.assertEqual(keeps(EXAMPLE), 1)
 
     def test_all_memories_tried_out(self):
-        for machine in small_machines(61, 300):
+        for machine in small_machines(61, 300, 130):
             with self.subTest(machine=machine):
                 far, dark = reached_tried_out(machine), unseen_tried_out(machine)
                 self.assert_staircase_of(machine, reached(machine), far)
@@ -98,7 +39,7 @@ class PartsTests(unittest.TestCase):
                 self.assertEqual(machine[0] ** keeps(machine) * len(far & dark), len(far))
 
     def test_all_numbers_of_values_come_up(self):
-        told = [keeps(machine) for machine in small_machines(62, 300)]
+        told = [keeps(machine) for machine in small_machines(62, 300, 130)]
         self.assertEqual(sorted(set(told)), [0, 1, 2, 3, 4])
 
     def test_large_machines(self):

@@ -8,6 +8,7 @@ from driftstore import runs
 from driftstore.errors import BadInputs, BadMachine, BadMemory, BadNumber, BadProgram
 from driftstore.runs import run_still, run_stirred
 from drawing import PRIMES, drawn_kept, drawn_machine, drawn_program, drawn_row
+from trying_out import landing, run_by_words
 from wrong_programs import (
     BARE, BARE_KEPT, kept_numbers, program_numbers, right_instructions, wrong_instructions, wrong_programs,
 )
@@ -16,53 +17,6 @@ from wrong_values import FAR_INTEGERS, NO_INTEGERS, NO_ROW_PARTS, WrongValueTest
 SWAP = (2, ((0, 1), (1, 0)), ((1, 0),), ((1, 0),))
 THREE = (5, ((1, 2, 0), (0, 1, 0), (3, 0, 2)), ((1, 0, 2), (0, 4, 1)), ((0, 1, 1), (2, 0, 3)))
 FOUND = (("ask",), ("add", 0), ("get", 0), ("say",))
-
-
-def meet(prime, one, other):
-    return sum(one[k] * other[k] for k in range(len(one))) % prime
-
-
-def landing(program, place):
-    """The place of the next instruction that takes a tick, None for the end."""
-    gone = []
-    while place < len(program) and program[place][0] == "go":
-        if place in gone:
-            return None
-        gone.append(place)
-        place = program[place][1]
-    return None if place == len(program) or program[place][0] == "stop" else place
-
-
-def run_by_words(machine, program, inputs, most, memory):
-    """A run as point 4 tells it, word by word."""
-    prime, stir, writes, sights = machine
-    memory, inputs, hand, ticks, said = list(memory), list(inputs), 0, 0, []
-    place = landing(program, 0)
-    while place is not None and ticks < most:
-        word = program[place][0]
-        number = program[place][1] if len(program[place]) == 2 else None
-        then = place + 1
-        if word == "get":
-            hand = meet(prime, sights[number], memory)
-        elif word == "plus":
-            hand = (hand + meet(prime, sights[number], memory)) % prime
-        elif word == "minus":
-            hand = (hand - meet(prime, sights[number], memory)) % prime
-        elif word in ("add", "take"):
-            sign = 1 if word == "add" else -1
-            memory = [(a + sign * hand * b) % prime for a, b in zip(memory, writes[number])]
-        elif word == "put":
-            hand = number
-        elif word == "say":
-            said.append(hand)
-        elif word == "ask":
-            hand = inputs.pop(0) if inputs else 0
-        elif word == "zero" and hand == 0:
-            then = number
-        memory = [meet(prime, row, memory) for row in stir]
-        ticks += 1
-        place = landing(program, then)
-    return tuple(said), "stopped" if place is None else "running", ticks
 
 
 def run_with_values(prime, values, program, inputs, most):

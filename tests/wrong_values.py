@@ -27,3 +27,10 @@ class WrongValueTests:
         for name, value in fields.items():
             self.assertEqual(getattr(caught.exception, name), value, args)
         self.assertEqual(repr(args), repr(before))
+
+    def assert_leftmost_raised(self, function, right, wrong):
+        """Of more wrong arguments the leftmost one's error is raised; wrong has pairs of a value and its error."""
+        for first, (value, error) in enumerate(wrong):
+            for more in range(2 ** (len(wrong) - first - 1)):
+                rest = [wrong[k][0] if more >> (k - first - 1) & 1 else right[k] for k in range(first + 1, len(wrong))]
+                self.assert_raises_exactly(error, function, *right[:first], value, *rest, *right[len(wrong):])
